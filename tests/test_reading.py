@@ -115,7 +115,8 @@ class ReadingTest(unittest.TestCase):
         self.assertEqual(read_row("let x(part a0 4)"), ("let", "x", ("part", A, 0, 4)))
 
     def test_names(self):
-        for name in ["a", "z", "abcdefgh", "zzzzzzzz"] + [word + "a" for word in WORDS] + ["a" + word for word in WORDS]:
+        names = ["a", "z", "abcdefgh", "zzzzzzzz"]
+        for name in names + [word + "a" for word in WORDS] + ["a" + word for word in WORDS]:
             self.assertEqual(read_row("in " + name + " 1"), ("in", name, 1))
             self.assertEqual(read_modules("module " + name + "\nend")[0].name, name)
             self.assertEqual(read_row("let x " + name + "." + name), ("let", "x", ("of", name, name)))

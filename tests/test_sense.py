@@ -167,8 +167,8 @@ class UseTest(SenseCase):
         self.assert_line("module m\nuse u m\nout o 0:1\nend", 1)
         self.assert_line("module m\nuse u n\nout o 0:1\nend\nmodule n\nout o 0:1\nend", 1)
         self.assert_sense(
-            "module n\nout o 0:1\nend\nmodule m\nuse u n\nuse v n\nout o u.o\nend\nmodule t\nuse u m\nuse v n\nout o u.o\n"
-            "out p v.o\nend")
+            "module n\nout o 0:1\nend\nmodule m\nuse u n\nuse v n\nout o u.o\nend\n"
+            "module t\nuse u m\nuse v n\nout o u.o\nout p v.o\nend")
 
 
 class NextTest(SenseCase):

@@ -1,0 +1,116 @@
+"""Modules, nets and rows for the tests, made by a seeded source so that each run has the same ones."""
+
+import random
+
+from bitfloor.nets import Net
+
+TWO_SIDED = ("and", "or", "xor")
+
+
+class TextMaker:
+    """Makes texts of modules that have a sense."""
+
+    def __init__(self, seed, widest=16):
+        self.source = random.Random(seed)
+        self.widest = widest
+        self.faces = {}
+
+    def value(self, wide):
+        most = 2 ** wide - 1
+        return self.source.choice((0, most, self.source.randint(0, most))), wide
+
+    def expr(self, wide, named, depth):
+        """The text of an expression of this width; named are pairs (text, wide)."""
+        fitting = [text for text, other in named if other == wide]
+        if depth == 0 or self.source.random() < 0.2:
+            if fitting and self.source.random() < 0.8:
+                return self.source.choice(fitting)
+            return "{}:{}".format(*self.value(wide))
+        words = ["not", "and", "or", "xor", "plus", "pick", "part"]
+        words += ["join"] * (wide > 1) + ["less", "same"] * 2 * (wide == 1)
+        word = self.source.choice(words)
+        if word == "part":
+            whole = self.source.randint(wide, self.widest)
+            low = self.source.randint(0, whole - wide)
+            return f"(part {self.expr(whole, named, depth - 1)} {low} {wide})"
+        if word == "join":
+            above = self.source.randint(1, wide - 1)
+            wides = (above, wide - above)
+        elif word == "pick":
+            wides = (1, wide, wide)
+        elif word in ("less", "same"):
+            wides = (self.source.randint(1, self.widest),) * 2
+        else:
+            wides = (wide,) * (1 if word == "not" else 2)
+        return "(" + " ".join([word] + [self.expr(inner, named, depth - 1) for inner in wides]) + ")"
+
+    def module(self, name, used):
+        rows = ["module " + name]
+        ins = []
+        named = []
+        keepers = []
+        for count in range(self.source.randint(0, 3)):
+            ins.append(("i" + "abc"[count], self.source.randint(1, self.widest)))
+            rows.append("in {} {}".format(*ins[-1]))
+        named.extend(ins)
+        for count in range(self.source.randint(0, 3)):
+            first, wide = self.value(self.source.randint(1, self.widest))
+            keepers.append(("k" + "abc"[count], wide))
+            rows.append(f"keep k{'abc'[count]} {wide} {first}")
+        named.extend(keepers)
+        for count in range(self.source.randint(0, 4)):
+            mark = "abcd"[count]
+            if used and self.source.random() < 0.5:
+                module = self.source.choice(used)
+                exprs = [self.expr(wide, named, 2) for wide in self.faces[module][0]]
+                rows.append(" ".join(["use u" + mark, module] + exprs))
+                named.extend(("u" + mark + "." + out, wide) for out, wide in self.faces[module][1])
+            else:
+                wide = self.source.randint(1, self.widest)
+                rows.append(f"let l{mark} {self.expr(wide, named, 3)}")
+                named.append(("l" + mark, wide))
+        rows.extend(f"next {keeper} {self.expr(wide, named, 3)}" for keeper, wide in reversed(keepers))
+        outs = [("o" + "abc"[count], self.source.randint(1, self.widest)) for count in range(self.source.randint(1, 3))]
+        rows.extend(f"out {out} {self.expr(wide, named, 3)}" for out, wide in outs)
+        self.faces[name] = ([wide for in_name, wide in ins], outs)
+        return rows + ["end"]
+
+    def text(self):
+        rows = []
+        names = ["low", "mid", "high", "top"][:self.source.randint(1, 4)]
+        for count, name in enumerate(names):
+            rows.extend(self.module(name, names[:count]))
+        return "\n".join(rows)
+
+    def row(self, wides):
+        return [self.value(wide)[0] for wide in wides]
+
+
+def random_net(seed, count, ins=3):
+    """A net with so many gates of every word."""
+    source = random.Random(seed)
+    gates = []
+    words = ["zero", "one", "not", "not", "and", "or", "xor", "pick", "pick", "keep"]
+    for number in range(count):
+        word = source.choice(words)
+        if number == 0 or (number < 3 * ins and number % 3 == 0):
+            word = "in"
+        feeds = [source.randrange(max(0, number - 12), number) for place in range(3)] if number else []
+        if word in ("in", "zero", "one"):
+            gates.append((word,))
+        elif word == "not":
+            gates.append((word, feeds[0]))
+        elif word == "keep":
+            gates.append((word, source.randint(0, 1), source.randrange(count)))
+        elif word == "pick":
+            gates.append((word, feeds[0], feeds[1], feeds[2]))
+        else:
+            gates.append((word, feeds[0], feeds[1]))
+    outs = [source.randrange(count) for place in range(source.randint(0, 4))]
+    return Net(gates, outs)
+
+
+def random_bits(seed, beats, count):
+    """So many rows of so many bits."""
+    source = random.Random(seed)
+    return [[source.randint(0, 1) for place in range(count)] for beat in range(beats)]
