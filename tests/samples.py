@@ -3,6 +3,7 @@
 import random
 
 from bitfloor.nets import Net
+from bitfloor.tables import Tables
 
 TWO_SIDED = ("and", "or", "xor")
 
@@ -114,3 +115,83 @@ def random_bits(seed, beats, count):
     """So many rows of so many bits."""
     source = random.Random(seed)
     return [[source.randint(0, 1) for place in range(count)] for beat in range(beats)]
+
+
+def wide_net(seed, sources, count):
+    """A net of in and keep gates first and so many gates behind them, few of them zero and one gates or sources."""
+    source = random.Random(seed)
+    total = sources + count
+    gates = []
+    for number in range(total):
+        word = source.choice(["not"] + ["and", "or", "xor", "pick"] * 4 + ["zero", "one", "in", "keep"])
+        if number < sources or number == 0:
+            word = source.choice(("in", "in", "keep"))
+        feeds = [source.randrange(max(0, number - 9), number) for place in range(3)] if number else []
+        if word in ("in", "zero", "one"):
+            gates.append((word,))
+        elif word == "keep":
+            gates.append((word, source.randint(0, 1), source.randrange(total)))
+        else:
+            gates.append((word,) + tuple(feeds[:{"not": 1, "pick": 3}.get(word, 2)]))
+    return Net(gates, [source.randrange(total) for place in range(source.randint(0, 4))])
+
+
+# things that stand for nothing in any paper
+STRANGE = (
+    True, False, -1, 10 ** 30, "", "0", "in", "keep", "table", [None], [True], [[]], [-1], ["0"], (None, None), ([], 0),
+    [[[]]], ("in",), ("in", True), (0, 1, 2, 3, 4, 5, 6, 7, 8),
+)
+
+
+def exchanged(thing, strange):
+    """All that comes of a paper when one thing within it, however deep, is exchanged for a strange one."""
+    yield strange
+    if isinstance(thing, (list, tuple)):
+        for place, inner in enumerate(thing):
+            for other in exchanged(inner, strange):
+                yield type(thing)(list(thing[:place]) + [other] + list(thing[place + 1:]))
+
+
+def with_kind(thing, kind):
+    """The same paper made of lists or of tuples alone."""
+    if isinstance(thing, (list, tuple)):
+        return kind([with_kind(inner, kind) for inner in thing])
+    return thing
+
+
+def lists_in(thing):
+    """All lists within a thing, itself among them."""
+    if not isinstance(thing, (list, tuple)):
+        return []
+    inner = [found for part in thing for found in lists_in(part)]
+    return inner + [thing] if isinstance(thing, list) else inner
+
+
+def rows_down(net, gate):
+    """All rows of gates from a gate down to a source, walked plainly."""
+    word = net.gates[gate][0]
+    if word in ("in", "keep"):
+        return [[gate]]
+    return [[gate] + row for feed in net.gates[gate][1:] for row in rows_down(net, feed)]
+
+
+def plainly_shut(net, gates, gate):
+    """Whether each row down to a source has one of the gates."""
+    return all(any(number in gates for number in row) for row in rows_down(net, gate))
+
+
+def random_tables(seed, most=25):
+    """Tables of every number of leaves, with keeps and outs."""
+    source = random.Random(seed)
+    ins = source.randint(0, 4)
+    keeps = source.randint(0 if ins else 1, 4)
+    places = [("in", place) for place in range(ins)] + [("keep", place) for place in range(keeps)]
+    tables = []
+    for number in range(source.randint(0, most)):
+        leaves = [source.choice(places) for place in range(source.randint(0, 4))]
+        tables.append((leaves, source.randrange(2 ** 2 ** len(leaves))))
+        places.append(("table", number))
+    return Tables(
+        ins, tables, [(source.randint(0, 1), source.choice(places)) for place in range(keeps)],
+        [source.choice(places) for place in range(source.randint(0, 5))],
+    )
