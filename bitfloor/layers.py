@@ -2,7 +2,7 @@
 
 from bitfloor.cutting import feeds_within, gates_down, is_source
 
-END = -1
+END = "end"
 MOST = 4
 
 

@@ -3,6 +3,7 @@
 import random
 
 from bitfloor.nets import Net
+from bitfloor.packs import Pack
 from bitfloor.tables import Tables
 
 TWO_SIDED = ("and", "or", "xor")
@@ -195,3 +196,22 @@ def random_tables(seed, most=25):
         ins, tables, [(source.randint(0, 1), source.choice(places)) for place in range(keeps)],
         [source.choice(places) for place in range(source.randint(0, 5))],
     )
+
+
+def random_pack(seed, most=25):
+    """Blocks of every number of sources, kept ones fed by any, others fed by later ones too, but never in a ring."""
+    source = random.Random(seed)
+    ins = source.randint(0, 4)
+    count = source.randint(0 if ins else 1, most)
+    kept = [source.random() < 0.3 for number in range(count)]
+    order = source.sample(range(count), count)
+    blocks = []
+    for number in range(count):
+        free = [other for other in range(count) if kept[number] or kept[other]]
+        free += [] if kept[number] else [other for other in order[:order.index(number)] if not kept[other]]
+        sources = [("in", place) for place in range(ins)] + [("block", other) for other in free]
+        chosen = [source.choice(sources) for place in range(source.randint(0, 4))] if sources else []
+        first = source.randint(0, 1) if kept[number] else 0
+        blocks.append((chosen, source.randrange(2 ** 2 ** len(chosen)), int(kept[number]), first))
+    ends = [("in", place) for place in range(ins)] + [("block", number) for number in range(count)]
+    return Pack(ins, blocks, [source.choice(ends) for place in range(source.randint(0, 5))])

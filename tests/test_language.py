@@ -29,6 +29,8 @@ BANNED_NAMES = set(
     "copyright credits delattr dir eval exec exit gc getattr globals hasattr help id importlib license locals "
     "methodcaller os quit setattr super type vars sys format format_map chr".split()
 )
+MAKERS = ("raising", "shrinking", "layers", "fitting", "packing")
+CHECKERS = ("smallcheck", "layercheck", "fitcheck")
 VALUE_NAMES = set("count index title find get join lower upper split strip copy add".split())
 STATEMENTS = (
     ast.Assign, ast.AugAssign, ast.If, ast.While, ast.For, ast.Return, ast.Break, ast.Continue, ast.Pass, ast.Raise,
@@ -344,17 +346,32 @@ class PackageTest(unittest.TestCase):
             with self.subTest(file=name):
                 self.assertEqual(Checker(source, self.shared).check(), [])
 
-    def test_imports_come_from_the_file_that_defines_the_name_and_never_in_a_ring(self):
+    def drawn_files(self):
+        """For each file the files that it draws from."""
         drawn = {}
         for name, source in self.sources.items():
-            drawn[name] = []
+            rows = [node for node in ast.parse(source).body if isinstance(node, ast.ImportFrom)]
+            drawn[name] = [node.module.partition(".")[2] for node in rows]
+        return drawn
+
+    def test_imports_come_from_the_file_that_defines_the_name(self):
+        for source in self.sources.values():
             for node in ast.parse(source).body:
                 if isinstance(node, ast.ImportFrom):
                     origin = node.module.partition(".")[2]
-                    drawn[name].append(origin)
                     for alias in node.names:
                         self.assertIn(alias.name, Checker(self.sources[origin]).tops)
-        left = dict(drawn)
+
+    def test_the_checkers_know_nothing_of_the_makers(self):
+        drawn = self.drawn_files()
+        for checker in CHECKERS:
+            known = [checker]
+            for name in known:
+                known.extend(origin for origin in drawn[name] if origin not in known)
+            self.assertEqual([name for name in known if name in MAKERS], [], checker)
+
+    def test_no_files_draw_from_one_another(self):
+        left = self.drawn_files()
         while left:
             free = [name for name in left if all(origin not in left for origin in left[name])]
             self.assertNotEqual(free, [], "files that draw from one another")
