@@ -1,21 +1,13 @@
 """Whether tables fit a net."""
 
-from bitfloor.cutting import gates_down, is_source
 from bitfloor.kinds import is_below, is_listed
-from bitfloor.netplay import told_bit
-from bitfloor.nets import feeds_of, ins_of, keeps_of
+from bitfloor.nets import ins_of, keeps_of
+from bitfloor.rowbits import bits_from, leaf_bits, whole_bits
 
 
 def bit_from(net, gate, known):
     """A gate's bit reckoned from a dict of gates' bits, None where these gates do not shut it off."""
-    bits = dict(known)
-    for number in gates_down(net, gate, known):
-        # a source stands ahead of all gates that it feeds, so nothing is reckoned from one that is not known
-        if is_source(net.gates[number]):
-            return None
-        feeds = feeds_of(net.gates[number])
-        bits[number] = told_bit(net.gates[number][0], [bits[feed] for feed in feeds])
-    return bits[gate]
+    return bits_from(net, gate, known, 1)
 
 
 def gates_by_place(net, paper):
@@ -46,11 +38,8 @@ def table_holds(net, gate, leaves, bits):
     """Whether a table has these bits when its leaves stand for these gates and it stands for that gate."""
     if len(set(leaves)) != len(leaves):
         return False
-    for number in range(1 << len(leaves)):
-        known = dict([(leaf, number >> place & 1) for place, leaf in enumerate(leaves)])
-        if bit_from(net, gate, known) != bits >> number & 1:
-            return False
-    return True
+    known = dict([(leaf, leaf_bits(place, len(leaves))) for place, leaf in enumerate(leaves)])
+    return bits_from(net, gate, known, whole_bits(len(leaves))) == bits
 
 
 def fit_holds(net, tables, paper):

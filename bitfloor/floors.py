@@ -3,6 +3,8 @@
 from bitfloor.errors import NoFloor, OutOfFloor
 from bitfloor.kinds import is_below, is_listed, is_pair, is_whole
 
+SIDE_PAIRS = ((0, 1), (0, 2), (0, 3), (1, 2), (1, 3), (2, 3))
+
 
 class Floor:
     """So many rows and columns of cells, with so many tracks of wires between each two."""
@@ -44,6 +46,16 @@ def side_wire(floor, box, side, track):
     if side == 2:
         return ("v", box[0] - 1, box[1], track)
     return ("v", box[0], box[1], track)
+
+
+def cells_of(floor):
+    """The list of all cells, row by row."""
+    return [(number // floor.columns, number % floor.columns) for number in range(floor.rows * floor.columns)]
+
+
+def box_wires(floor, box):
+    """The list of the wires at a box, by sides and then by tracks."""
+    return [side_wire(floor, box, number // floor.tracks, number % floor.tracks) for number in range(4 * floor.tracks)]
 
 
 def pads_of(floor):

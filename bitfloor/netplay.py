@@ -3,23 +3,7 @@
 from bitfloor.errors import NoRow
 from bitfloor.kinds import ask_bits
 from bitfloor.nets import feeds_of, ins_of, keeps_of
-
-
-def told_bit(word, fed):
-    """The bit that a gate which is no in or keep gate tells, fed with these bits."""
-    if word == "zero":
-        return 0
-    if word == "one":
-        return 1
-    if word == "not":
-        return 1 - fed[0]
-    if word == "and":
-        return fed[0] & fed[1]
-    if word == "or":
-        return fed[0] | fed[1]
-    if word == "xor":
-        return fed[0] ^ fed[1]
-    return fed[1] if fed[0] == 1 else fed[2]
+from bitfloor.rowbits import gate_bits
 
 
 class NetPlayer:
@@ -42,7 +26,7 @@ class NetPlayer:
             if number in sources:
                 bits[number] = sources[number]
             else:
-                bits[number] = told_bit(gate[0], [bits[feed] for feed in feeds_of(gate)])
+                bits[number] = gate_bits(gate[0], [bits[feed] for feed in feeds_of(gate)], 1)
         self.bits = bits
         self.kept = [bits[self.gates[number][2]] for number in self.keeps]
         return [bits[out] for out in self.outs]

@@ -4,6 +4,9 @@ from bitfloor.errors import NoPack
 from bitfloor.kinds import is_below, is_listed, is_place, is_whole
 from bitfloor.tables import is_table
 
+# the source of a choice that nobody drives; a pack has none such, a board has
+SILENCE = ("none", 0)
+
 
 def is_block(thing, counts):
     """True for a tuple of at most four sources, the bits for all that these can have, kept and first."""
@@ -37,6 +40,11 @@ def loose_order(blocks):
     return order
 
 
+def has_ring(blocks):
+    """True where blocks that are not kept feed one another in a ring."""
+    return len(loose_order(blocks)) != len([block for block in blocks if block[2] == 0])
+
+
 def ask_pack(ins, blocks, outs):
     """Refuse what is not blocks and outs with so many ins."""
     if not is_whole(ins) or ins < 0:
@@ -48,7 +56,7 @@ def ask_pack(ins, blocks, outs):
         raise NoPack("a block is not as told")
     if not all([is_place(out, counts) for out in outs]):
         raise NoPack("an out is no source")
-    if len(loose_order(blocks)) != len([block for block in blocks if block[2] == 0]):
+    if has_ring(blocks):
         raise NoPack("blocks that are not kept feed one another in a ring")
 
 

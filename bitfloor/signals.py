@@ -1,7 +1,7 @@
 """The signals of a pack, and how far they stretch on a floor."""
 
 from bitfloor.errors import NoRoom
-from bitfloor.floors import is_box, pads_of
+from bitfloor.floors import box_wires, is_box, pad_wires, pads_of
 from bitfloor.kinds import is_listed
 
 
@@ -32,6 +32,12 @@ def are_places(pack, floor, places):
     return len(set([tuple(cell) for cell in places])) == len(places)
 
 
+def ask_places(pack, floor, places):
+    """Refuse a floor with too few pads, and places that are not as told."""
+    if not has_pads(pack, floor) or not are_places(pack, floor, places):
+        raise NoRoom("there are too few pads, or the places are not as told")
+
+
 def spot_of(pack, pads, places, end):
     """The spot of a source or a sink."""
     if end[0] == "in":
@@ -39,6 +45,15 @@ def spot_of(pack, pads, places, end):
     if end[0] == "out":
         return pads[pack.ins + end[1]]
     return places[end[1]]
+
+
+def end_wires(pack, floor, places, end):
+    """The list of the wires at the box or of the pad of a source or a sink."""
+    if end[0] == "in":
+        return pad_wires(floor, end[1])
+    if end[0] == "out":
+        return pad_wires(floor, pack.ins + end[1])
+    return box_wires(floor, places[end[1]])
 
 
 def signal_stretch(spots):
@@ -50,8 +65,7 @@ def signal_stretch(spots):
 
 def stretch_of(pack, floor, places):
     """The stretch of all signals together."""
-    if not has_pads(pack, floor) or not are_places(pack, floor, places):
-        raise NoRoom("there are too few pads, or the places are not as told")
+    ask_places(pack, floor, places)
     pads = pads_of(floor)
     stretch = 0
     for source, sinks in signals_of(pack):

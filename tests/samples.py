@@ -2,8 +2,12 @@
 
 import random
 
+from bitfloor.errors import NoRoom, NoWays
+from bitfloor.floors import Floor
+from bitfloor.leading import led
 from bitfloor.nets import Net
 from bitfloor.packs import Pack
+from bitfloor.placing import placed
 from bitfloor.tables import Tables
 
 TWO_SIDED = ("and", "or", "xor")
@@ -160,6 +164,11 @@ def with_kind(thing, kind):
     return thing
 
 
+def same_papers(one, other):
+    """Whether two papers are the same, lists and tuples being alike and True and False no numbers."""
+    return repr(with_kind(one, list)) == repr(with_kind(other, list))
+
+
 def lists_in(thing):
     """All lists within a thing, itself among them."""
     if not isinstance(thing, (list, tuple)):
@@ -215,3 +224,70 @@ def random_pack(seed, most=25):
         blocks.append((chosen, source.randrange(2 ** 2 ** len(chosen)), int(kept[number]), first))
     ends = [("in", place) for place in range(ins)] + [("block", number) for number in range(count)]
     return Pack(ins, blocks, [source.choice(ends) for place in range(source.randint(0, 5))])
+
+
+# pad 0 is in 0, pads 1 and 2 are the outs; wires of both tracks, and one that is drive and tap at once
+HAND_PACK = Pack(1, [([("in", 0)], 1, 0, 0), ([("block", 0), ("in", 0)], 6, 1, 1)], [("block", 1), ("in", 0)])
+HAND_FLOOR = Floor(2, 2, 2)
+HAND_PLACES = [(0, 0), (1, 1)]
+HAND_WAYS = [
+    ([("h", 0, -1, 0)], [((0, 0), 0, 1, 0), ((0, 1), 0, 3, 0), ((0, 0), 0, 2, 0)],
+     [("h", 0, -1, 0), ("v", 0, 1, 0), ("v", -1, 0, 0)]),
+    ([("v", 0, 0, 0)], [((1, 0), 1, 2, 0)], [("h", 1, 0, 0)]),
+    ([("h", 1, 0, 1)], [((1, 0), 0, 1, 1)], [("h", 1, -1, 1)]),
+]
+HAND_BITS = "".join((
+    "00000010", "00000010", "00000010", "00000001", "00000010",
+    "1010101010101010", "00", "0001", "0000", "0000", "0000", "00000010", "110000", "000000",
+    "0" * 16, "00", "0000", "0000", "0000", "0000", "00000000", "001000", "000000",
+    "0" * 16, "00", "0000", "0000", "0000", "0000", "00000000", "000100", "100000",
+    "0110011001100110", "11", "0001", "0101", "0000", "0000", "01000000", "000000", "000000",
+    "1000", "0010", "0001", "0000", "0000", "0000", "0000", "0000",
+))
+
+
+def led_cases(count, most=14):
+    """So many packs with floors, places and ways that were found for them."""
+    found = []
+    seed = 0
+    while len(found) < count:
+        seed += 1
+        source = random.Random(seed)
+        pack = random_pack(seed, most)
+        side = source.randint(2, 5)
+        floor = Floor(side, source.randint(2, 6), source.randint(1, 8))
+        try:
+            places = placed(pack, floor, source.choice((0, 1, 4, 100)))[0]
+            found.append((pack, floor, places, led(pack, floor, places, 30)))
+        except (NoRoom, NoWays):
+            continue
+    return found
+
+
+def bits_of(floor, ins=0, outs=0, cells=None, pads=None):
+    """A row of bits written plainly.
+
+    Cells has for a cell's number a dict with some of table (a text of sixteen bits), kept, first, choices (a list of
+    numbers), drives (a list of pairs of side and track) and joins (a list of tuples of track, side and side); pads has
+    for a pad's number a pair of the list of tracks that it drives and its choice.
+    """
+    def number(value, wide):
+        return bin(value)[2:].rjust(wide, "0") if wide else ""
+
+    rows, columns, tracks = floor
+    row = "".join(number(value, 8) for value in (rows, columns, tracks, ins, outs))
+    wide = len(bin(4 * tracks)[2:]) if tracks else 0
+    for spot in range(rows * columns):
+        cell = (cells or {}).get(spot, {})
+        row += cell.get("table", "0" * 16) + str(cell.get("kept", 0)) + str(cell.get("first", 0))
+        choices = list(cell.get("choices", ()))
+        row += "".join(number(choice, wide) for choice in choices + [0] * (4 - len(choices)))
+        row += "".join(str(int((side, track) in cell.get("drives", ())))
+                       for side in range(4) for track in range(tracks))
+        row += "".join(str(int((track, low, high) in cell.get("joins", ())))
+                       for track in range(tracks) for low in range(4) for high in range(low + 1, 4))
+    wide = len(bin(tracks)[2:]) if tracks else 0
+    for spot in range(2 * (rows + columns)):
+        drives, choice = (pads or {}).get(spot, ((), 0))
+        row += "".join(str(int(track in drives)) for track in range(tracks)) + number(choice, wide)
+    return row

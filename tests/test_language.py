@@ -29,8 +29,10 @@ BANNED_NAMES = set(
     "copyright credits delattr dir eval exec exit gc getattr globals hasattr help id importlib license locals "
     "methodcaller os quit setattr super type vars sys format format_map chr".split()
 )
-MAKERS = ("raising", "shrinking", "layers", "fitting", "packing")
-CHECKERS = ("smallcheck", "layercheck", "fitcheck")
+MAKERS = (
+    "raising", "shrinking", "layers", "fitting", "packing", "placing", "leading", "bitwriting",
+)
+CHECKERS = ("smallcheck", "layercheck", "fitcheck", "wayscheck")
 VALUE_NAMES = set("count index title find get join lower upper split strip copy add".split())
 STATEMENTS = (
     ast.Assign, ast.AugAssign, ast.If, ast.While, ast.For, ast.Return, ast.Break, ast.Continue, ast.Pass, ast.Raise,
