@@ -207,6 +207,17 @@ def random_tables(seed, most=25):
     )
 
 
+def plain_bits(tables, row, held):
+    """The bits of all tables for a row and what the keeps hold."""
+    had = {("in", number): bit for number, bit in enumerate(row)}
+    had.update((("keep", number), bit) for number, bit in enumerate(held))
+    told = []
+    for number, (leaves, bits) in enumerate(tables.tables):
+        told.append(bits // 2 ** sum(had[leaf] * 2 ** place for place, leaf in enumerate(leaves)) % 2)
+        had[("table", number)] = told[-1]
+    return told
+
+
 def random_pack(seed, most=25):
     """Blocks of every number of sources, kept ones fed by any, others fed by later ones too, but never in a ring."""
     source = random.Random(seed)
@@ -264,6 +275,13 @@ def led_cases(count, most=14):
     return found
 
 
+def plain_side(box, side, track):
+    """The wire of a track at a side of a box."""
+    row, column = box
+    return [("h", row, column - 1, track), ("h", row, column, track), ("v", row - 1, column, track),
+            ("v", row, column, track)][side]
+
+
 def bits_of(floor, ins=0, outs=0, cells=None, pads=None):
     """A row of bits written plainly.
 
@@ -291,3 +309,82 @@ def bits_of(floor, ins=0, outs=0, cells=None, pads=None):
         drives, choice = (pads or {}).get(spot, ((), 0))
         row += "".join(str(int(track in drives)) for track in range(tracks)) + number(choice, wide)
     return row
+
+
+def bit_by(net, gate, known):
+    """A gate's bit from a dict of gates' bits, None where a row down to a source has none of them."""
+    if gate in known:
+        return known[gate]
+    word = net.gates[gate][0]
+    if word in ("in", "keep"):
+        return None
+    fed = [bit_by(net, feed, known) for feed in net.gates[gate][1:]]
+    if None in fed:
+        return None
+    if word in ("zero", "one"):
+        return int(word == "one")
+    if word == "not":
+        return 1 - fed[0]
+    if word == "pick":
+        return fed[1] if fed[0] else fed[2]
+    return {"and": min(fed), "or": max(fed), "xor": sum(fed) % 2}[word]
+
+
+def plainly_met(one, other, paper, meet):
+    """Whether both gates have the same bit for each row of bits at the leaves in which no gate has two."""
+    leaves = [paper[leaf] for leaf in meet[2]]
+    for row in range(2 ** len(leaves)):
+        bits = [row // 2 ** place % 2 for place in range(len(leaves))]
+        pairs = [{(leaf[side], bit) for leaf, bit in zip(leaves, bits)} for side in (0, 1)]
+        known = [dict(sorted(pair)) for pair in pairs]
+        if any(len(pair) != len(gates) for pair, gates in zip(pairs, known)):
+            # a gate would have two bits, but what shuts a gate off does not hang on the row
+            continue
+        told = bit_by(one, meet[0], known[0])
+        if told is None or told != bit_by(other, meet[1], known[1]):
+            return False
+    return True
+
+
+def rewritten(net, seed):
+    """Another net that tells the same, each gate made of others, and the pairs of the gates that have the same bits."""
+    source = random.Random(seed)
+    gates = []
+    numbers = {}
+    # keep gates first, in another order, and then the in gates
+    keeps = [number for number, gate in enumerate(net.gates) if gate[0] == "keep"]
+    for number in source.sample(keeps, len(keeps)):
+        numbers[number] = len(gates)
+        gates.append(None)
+
+    def lay(*gate):
+        gates.append(gate)
+        return len(gates) - 1
+
+    def made(gate):
+        fed = [numbers[feed] for feed in gate[1:]]
+        way = source.randrange(3)
+        if way == 0 or gate[0] in ("in", "zero", "one"):
+            return lay(gate[0], *fed)
+        if gate[0] == "not":
+            return lay("pick", fed[0], lay("zero"), lay("one")) if way == 1 else lay("xor", fed[0], lay("one"))
+        if gate[0] == "pick":
+            chosen = lay("and", fed[0], fed[1])
+            if way == 1:
+                return lay("or", chosen, lay("and", lay("not", fed[0]), fed[2]))
+            return lay("pick", lay("not", fed[0]), fed[2], fed[1])
+        if gate[0] == "xor":
+            return lay("pick", fed[0], lay("not", fed[1]), fed[1])
+        if way == 1:
+            return lay(gate[0], fed[1], fed[0])
+        turned = {"and": "or", "or": "and"}[gate[0]]
+        return lay("not", lay(turned, lay("not", fed[0]), lay("not", fed[1])))
+
+    for number, gate in enumerate(net.gates):
+        if gate[0] != "keep":
+            numbers[number] = made(gate)
+    for number in keeps:
+        gates[numbers[number]] = ("keep", net.gates[number][1], numbers[net.gates[number][2]])
+    pairs = [(number, numbers[number]) for number in keeps]
+    pairs += [(number, numbers[number]) for number in range(len(net.gates)) if number not in keeps]
+    return Net(gates, [numbers[out] for out in net.outs]), pairs

@@ -30,9 +30,10 @@ BANNED_NAMES = set(
     "methodcaller os quit setattr super type vars sys format format_map chr".split()
 )
 MAKERS = (
-    "raising", "shrinking", "layers", "fitting", "packing", "placing", "leading", "bitwriting",
+    "raising", "shrinking", "layers", "fitting", "packing", "placing", "leading", "bitwriting", "back", "opening", "meets",
+    "making", "hall",
 )
-CHECKERS = ("smallcheck", "layercheck", "fitcheck", "wayscheck")
+CHECKERS = ("smallcheck", "layercheck", "fitcheck", "wayscheck", "meetscheck")
 VALUE_NAMES = set("count index title find get join lower upper split strip copy add".split())
 STATEMENTS = (
     ast.Assign, ast.AugAssign, ast.If, ast.While, ast.For, ast.Return, ast.Break, ast.Continue, ast.Pass, ast.Raise,

@@ -8,7 +8,8 @@ from bitfloor.packs import Pack
 from bitfloor.signals import signals_of
 from bitfloor.wayscheck import way_wires, ways_hold
 from samples import (
-    HAND_FLOOR, HAND_PACK, HAND_PLACES, HAND_WAYS, STRANGE, exchanged, led_cases, lists_in, same_papers, with_kind,
+    HAND_FLOOR, HAND_PACK, HAND_PLACES, HAND_WAYS, STRANGE, exchanged, led_cases, lists_in, plain_side,
+    same_papers, with_kind,
 )
 
 
@@ -17,12 +18,6 @@ def changed(ways, number, drives=None, joins=None, taps=None):
     way = ways[number]
     parts = [old if new is None else new for old, new in zip(way, (drives, joins, taps))]
     return ways[:number] + [tuple(parts)] + ways[number + 1:]
-
-
-def plain_side(box, side, track):
-    row, column = box
-    return [("h", row, column - 1, track), ("h", row, column, track), ("v", row - 1, column, track),
-            ("v", row, column, track)][side]
 
 
 def plain_wires(way):
