@@ -93,10 +93,9 @@ def met_pairs(small, fit, stands, keeps, opened):
     for keep, number in zip(keeps, keeps_of(opened[0])):
         if stands[keep] is not None and stands[keep][0] == "keep":
             pairs.append((small_keeps[stands[keep][1]], number))
+    # what feeds keep gates is met behind all pairs, told or not
     for stand, number in zip(stands, opened[1]):
-        if stand is not None and stand[0] == "keep":
-            pairs.append((small.gates[small_keeps[stand[1]]][2], number))
-        elif stand is not None:
+        if stand is not None and stand[0] == "table":
             pairs.append((fit[stand[1]], number))
     return pairs
 

@@ -21,12 +21,14 @@ class Meets:
 
     def let_lead(self, pair):
         """Let the gates of a tuple be leaves', where they are none yet; zero and one gates never are."""
-        for net, firsts, gate in zip(self.nets, self.firsts, pair):
-            if net.gates[gate][0] not in ("zero", "one"):
-                firsts.setdefault(gate, self.together[pair])
+        for side in (0, 1):
+            if self.nets[side].gates[pair[side]][0] not in ("zero", "one"):
+                self.firsts[side].setdefault(pair[side], self.together[pair])
 
-    def leaves_below(self, net, firsts, gate):
-        """The tuples, rising, of the gates to which the feeds of a gate, gone down, first come."""
+    def leaves_below(self, side, gate):
+        """The tuples, rising, of the gates to which the feeds of a gate of one net, gone down, first come."""
+        net = self.nets[side]
+        firsts = self.firsts[side]
         leaves = {}
         seen = {}
         waiting = feeds_within(net, gate)
@@ -43,7 +45,7 @@ class Meets:
         """True where two gates stand in a tuple together, which is put there where it can be shown."""
         if pair in self.together:
             return True
-        below = [self.leaves_below(net, firsts, gate) for net, firsts, gate in zip(self.nets, self.firsts, pair)]
+        below = [self.leaves_below(side, gate) for side, gate in enumerate(pair)]
         for leaves in (sorted(set(below[0] + below[1])), below[0], below[1]):
             if len(leaves) > MOST_LEAVES:
                 continue

@@ -12,7 +12,7 @@ from bitfloor.reading import read_modules
 from bitfloor.scene import Scene
 from bitfloor.sense import faces
 from samples import HAND_BITS, TextMaker, bits_of
-from wholetexts import COUNTER, NO_CHANGE, NO_INS, TEXTS, USED, WIDE
+from wholetexts import COUNTER, GREAT, NO_CHANGE, NO_INS, TEXTS, USED, WIDE
 
 FEW = "module few\nin a 2\nkeep k 1 1\nnext k (xor k (part a 0 1))\nout o (and k (part a 1 1))\nend"
 
@@ -47,6 +47,11 @@ class BitsTextTest(unittest.TestCase):
             self.assertEqual(bits, made_whole(text, Floor(6, 5, 7), 100, 100)[-1])
             board = Board(bits)
             self.assertEqual((board.floor.rows, board.floor.columns, board.floor.tracks), (6, 5, 7))
+
+    def test_a_hundred_steps(self):
+        made = [made_whole(GREAT, Floor(10, 10, 8), most, 100) for most in (99, 100, 101)]
+        self.assertEqual([len(whole[10]) for whole in made], [99, 100, 101])
+        self.assertEqual([bits_text(GREAT, 10, 10, 8) == whole[-1] for whole in made], [False, True, False])
 
     def test_no_floor(self):
         for sizes in ((0, 1, 1), (1, 0, 1), (1, 1, 0), (11, 1, 1), (1, 11, 1), (1, 1, 9), (-1, 3, 3), (10 ** 30, 1, 1)):

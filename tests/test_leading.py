@@ -90,6 +90,10 @@ class LedTest(unittest.TestCase):
         with self.assertRaises(NoWays) as caught:
             led(HAND_PACK, HAND_FLOOR, HAND_PLACES, 0)
         self.assertEqual(caught.exception.signal, 0)
+        # one signal alone
+        with self.assertRaises(NoWays) as caught:
+            led(Pack(2, [], [("in", 1)]), HAND_FLOOR, [], 0)
+        self.assertEqual(caught.exception.signal, 0)
         for pack, places in ((Pack(0, [], []), []), (Pack(3, [([], 1, 1, 1)], []), [(0, 1)])):
             self.assertEqual(led(pack, HAND_FLOOR, places, 0), [])
             self.assertEqual(led(pack, HAND_FLOOR, tuple(places), 0), [])

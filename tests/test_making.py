@@ -31,7 +31,7 @@ from bitfloor.tables import Tables
 from bitfloor.wayscheck import ways_hold
 from bitfloor.writing import written_modules
 from samples import STRANGE, TextMaker, bits_of, lists_in, random_bits, with_kind
-from wholetexts import COUNTER, NO_INS, TEXTS, USED, WIDE, WIRES
+from wholetexts import COUNTER, GREAT, NO_INS, TEXTS, USED, WIDE, WIRES
 
 FLOOR = Floor(6, 6, 6)
 NAMES = ("modules", "floor", "net", "small", "shrinking", "tables", "fit", "pack", "packing", "places", "steps", "ways",
@@ -119,10 +119,8 @@ class MadeTest(unittest.TestCase):
         self.assertGreater(count, 45)
 
     def test_a_great_text(self):
-        rows = ["module wide", "in a 8", "in b 8", "in c 3", "keep k 8 77", "let s (plus a b)", "let t (xor (plus k s) b)",
-                "next k (pick (less a b) t (plus k a))", "out k (and k s)", "out lower (less t (join (part a 0 5) c))", "end"]
-        made = made_whole("\n".join(rows), Floor(10, 10, 8), 100, 100)
-        self.assertGreater(len(part(made, "pack").blocks), 30)
+        made = made_whole(GREAT, Floor(10, 10, 8), 100, 100)
+        self.assertGreater(len(part(made, "pack").blocks), 80)
         self.assert_whole(made)
         self.assert_tells(made, 5, 60)
 

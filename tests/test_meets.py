@@ -9,7 +9,7 @@ from bitfloor.meetscheck import alike_holds
 from bitfloor.nets import Net, ins_of, keeps_of
 from bitfloor.opening import opened_net
 from bitfloor.tables import Tables
-from samples import lists_in, plainly_met, random_net, random_tables, rewritten
+from samples import lists_in, plainly_met, random_net, random_tables, rewritten, wide_net
 
 
 def first_gates(net, gate, firsts):
@@ -215,6 +215,7 @@ class MeetsTest(unittest.TestCase):
         other = Net([("keep", 1, 4), ("keep", 0, 4), ("one",), ("zero",), ("pick", 0, 2, 3)], [1])
         self.assert_found(one, other, [])
         self.assert_found(one, other, [(0, 0), (1, 1), (0, 4)])
+        self.assert_found(other, one, [(0, 0), (1, 1), (4, 0)])
 
     def test_zero_and_one_gates_are_no_leaves(self):
         one = Net([("in",), ("zero",), ("or", 0, 1)], [2])
@@ -225,6 +226,12 @@ class MeetsTest(unittest.TestCase):
         self.assert_found(one, other, [(1, 1)])
         self.assertTrue(is_promised(one, other, [(1, 1)]))
         self.assertIsNone(meets_of(one, other, [(1, 2)]))
+        # were the zero gates leaves, both could be 1, and the gates would differ there
+        other = Net([("in",), ("zero",), ("xor", 0, 1)], [2])
+        self.assert_found(one, other, [(1, 1)])
+        one = Net([("in",), ("one",), ("and", 0, 1)], [2])
+        other = Net([("in",), ("one",), ("xor", 0, 1), ("not", 2)], [3])
+        self.assert_found(one, other, [(1, 1)])
 
     def test_pairs_that_do_not_meet(self):
         one = Net([("in",), ("in",), ("and", 0, 1), ("or", 0, 1)], [2])
@@ -258,6 +265,41 @@ class MeetsTest(unittest.TestCase):
         for order in itertools.permutations((wide, narrow)):
             self.assertEqual(self.found(order[0], order[1], pairs) is not None, is_promised(order[0], order[1], pairs))
             self.assertTrue(is_promised(order[0], order[1], pairs))
+
+    def test_leaves_of_both_gates_together(self):
+        # a gate of each net stands in two pairs, and each net's gate is made of the one whose pair comes second
+        gates = [("in",)] * 4
+        one = Net(gates + [("and", 0, 1), ("or", 2, 3), ("or", 3, 2), ("and", 4, 6)], [7])
+        other = Net(gates + [("and", 0, 1), ("and", 1, 0), ("or", 2, 3), ("and", 5, 6)], [7])
+        pairs = [(4, 4), (4, 5), (5, 6), (6, 6)]
+        self.assertTrue(is_promised(one, other, pairs))
+        self.assert_found(one, other, pairs)
+
+    def test_more_than_eight_leaves_of_one_gate_and_few_of_the_other(self):
+        # of all ands and xors of four in gates together comes their or
+        gates = [("in",)] * 4
+        sides = list(itertools.combinations(range(4), 2))
+        inner = gates + [("and",) + pair for pair in sides] + [("xor",) + pair for pair in sides]
+        wide = inner + [("or", 4, 5)]
+        for number in range(6, 16):
+            wide.append(("or", len(wide) - 1, number))
+        one = Net(wide, [len(wide) - 1])
+        other = Net(inner + [("or", 0, 1), ("or", 16, 2), ("or", 17, 3)], [18])
+        pairs = [(number, number) for number in range(4, 16)]
+        for nets in ((one, other), (other, one)):
+            self.assertTrue(is_promised(nets[0], nets[1], pairs))
+            self.assert_found(nets[0], nets[1], pairs)
+
+    def test_pairs_are_leaves_where_there_are_many_in_gates(self):
+        one = joined("and", list(range(30)))
+        for order in (list(range(30)), [1, 0] + list(range(2, 30))):
+            other = joined("and", order)
+            self.assert_found(one, other, [(number, number) for number in range(30, 59)])
+            self.assertIsNone(meets_of(one, other, []))
+        for seed in range(20):
+            one = wide_net(seed, 20, 40)
+            other, pairs = rewritten(one, seed)
+            self.assert_found(one, other, pairs)
 
     def test_opened_tables(self):
         for seed in range(40):

@@ -230,6 +230,8 @@ class WaysHoldTest(unittest.TestCase):
             for sides in ((high, low), (low, low), (high, high)):
                 broken = joins[:number] + [(box,) + sides + (track,)] + joins[number + 1:]
                 self.assertFalse(self.holds(changed(HAND_WAYS, 0, joins=broken)))
+            # one more that joins a wire of the way with itself
+            self.assertFalse(self.holds(changed(HAND_WAYS, 0, joins=joins + [(box, low, low, track)])))
         # one more that leads on, one between wires that both are the way's, and one that leads nowhere
         self.assertTrue(self.holds(changed(HAND_WAYS, 0, joins=joins + [((0, 1), 0, 2, 0)])))
         self.assertTrue(self.holds(changed(HAND_WAYS, 0, joins=joins + [((0, 0), 1, 2, 0)])))
@@ -260,6 +262,14 @@ class WaysHoldTest(unittest.TestCase):
             for ways in exchanged(HAND_WAYS, strange):
                 if not same_papers(ways, HAND_WAYS):
                     self.assertFalse(self.holds(ways), ways)
+
+    def test_strange_things_beside_good_ones(self):
+        for strange in STRANGE + (None, [], 0, ("h", 0, -1), ("h", 0, -1, 0, 0), ("h", 0, -1, True), ((0, 0), 0, 1, True)):
+            for number, (drives, joins, taps) in enumerate(HAND_WAYS):
+                self.assertFalse(self.holds(changed(HAND_WAYS, number, drives=drives + [strange])))
+                self.assertFalse(self.holds(changed(HAND_WAYS, number, joins=joins + [strange])))
+                self.assertFalse(self.holds(changed(HAND_WAYS, number, taps=taps + [strange])))
+            self.assertFalse(self.holds(HAND_WAYS + [strange]))
 
     def test_many_ways_bent(self):
         told = []

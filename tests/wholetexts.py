@@ -88,4 +88,17 @@ out none (or none (and k m))
 out all (or (or a b) (or (not a) c))
 end"""
 
+# so many blocks that more than a hundred steps would bring less stretch
+GREAT = """module wide
+in a 8
+in b 8
+in c 3
+keep k 8 77
+let s (plus a b)
+let t (xor (plus k s) b)
+next k (pick (less a b) t (plus k a))
+out k (and k s)
+out lower (less t (join (part a 0 5) c))
+end"""
+
 TEXTS = (COUNTER, USED, WIDE, NO_INS, NO_CHANGE, WIRES, MERGED)
